@@ -57,20 +57,20 @@ func (b *Book) Follows(sentence string) (bool, api.Errno, int) {
 	if e != api.OK {
 		return false, e, at
 	}
-	// It follows just if its contrary can't be so beside what is said.
-	here := b.web.Here()
-	b.web.Say(s.Contrary())
-	follows := b.web.Clash()
-	b.web.BackTo(here)
-	return follows, api.OK, 0
+	return b.web.Follows(s), api.OK, 0
 }
 
 // Why tells from which sentences it follows (P6).
 func (b *Book) Why(sentence string) ([]int, api.Errno, int) {
-	if b.closed() {
-		return nil, api.ErrClosed, 0
+	s, e, at := b.read(sentence)
+	if e != api.OK {
+		return nil, e, at
 	}
-	return nil, api.OK, 0
+	numbers, ok := b.web.Why(s)
+	if !ok {
+		return nil, api.ErrNone, 0
+	}
+	return numbers, api.OK, 0
 }
 
 // Classes tells which terms are equal (P7).
@@ -86,7 +86,10 @@ func (b *Book) World() ([]api.Row, api.Errno) {
 	if b.closed() {
 		return nil, api.ErrClosed
 	}
-	return nil, api.OK
+	if b.web.Clash() {
+		return nil, api.ErrClash
+	}
+	return b.web.World(), api.OK
 }
 
 // Mark sets a mark (P9).

@@ -24,7 +24,8 @@ func book(t *testing.T, said ...string) *akin.Book {
 
 // tell: all that a Book tells of itself.
 func tell(b *akin.Book) string {
-	return fmt.Sprintf("%q %q %v", b.Said(), b.Classes(), b.Clash())
+	rows, e := b.World()
+	return fmt.Sprintf("%q %q %v %s %d", b.Said(), b.Classes(), b.Clash(), shown(rows), e)
 }
 
 func deep(n int) string {
@@ -68,8 +69,9 @@ func TestP1AnErrorChangesNothing(t *testing.T) {
 	for _, s := range []string{"", "x = ", "x = f(y", "x = 1", "x = abcdefghi", "x = f(a, b, c, d)", "x = " + deep(13), strings.Repeat(" ", 198) + "x=y"} {
 		n, e, at := b.Say(s)
 		f, fe, fat := b.Follows(s)
-		if n != 0 || e == api.OK || f || fe != e || fat != at {
-			t.Errorf("%q: Say: %d, %d, %d; Follows: %v, %d, %d", s, n, e, at, f, fe, fat)
+		w, we, wat := b.Why(s)
+		if n != 0 || e == api.OK || f || fe != e || fat != at || len(w) != 0 || we != e || wat != at {
+			t.Errorf("%q: Say: %d, %d, %d; Follows: %v, %d, %d; Why: %v, %d, %d", s, n, e, at, f, fe, fat, w, we, wat)
 		}
 		if got := tell(b); got != before {
 			t.Errorf("%q has changed something: %s, then %s", s, before, got)
@@ -93,6 +95,7 @@ func TestP1AllTexts(t *testing.T) {
 			b.Follows(s)
 			b.Follows("f" + s + "a) = b")
 			b.Follows("a = " + s)
+			b.Why("a = a" + s)
 		}
 	}
 	for _, s := range []string{"f(", "f(a,", "(", ")", "a", "=", "!", "!=", ",", " ", "a=", "\x00", "\xff", "ä"} {
@@ -100,6 +103,9 @@ func TestP1AllTexts(t *testing.T) {
 			b.Follows(strings.Repeat(s, n))
 			b.Follows("a = " + strings.Repeat(s, n))
 			b.Follows(deep(n) + "=" + deep(n))
+			b.Why(strings.Repeat(s, n))
+			b.Why(deep(n) + "=" + strings.Repeat(s, n))
+			b.Why(deep(n) + "=" + deep(n))
 		}
 	}
 	if got := tell(b); got != before {
@@ -150,7 +156,7 @@ func TestP2BooksKnowNothingOfEachOther(t *testing.T) {
 	if f, _, _ := other.Follows("b = c"); f {
 		t.Errorf("what was said in one Book follows in another")
 	}
-	if got := tell(other); got != `["b != a"] [["a"] ["b"]] false` {
+	if got := tell(other); got != `["b != a"] [["a"] ["b"]] false a[]:0 b[]:1 0` {
 		t.Errorf("%s", got)
 	}
 	if n, e, _ := other.Say("a = a"); n != 1 || e != api.OK {

@@ -74,3 +74,30 @@ func TestTermsAreKnownOnce(t *testing.T) {
 		t.Errorf("%d terms, %d sayings", w.Terms(), w.Sayings())
 	}
 }
+
+func TestAskingLeavesNoTrace(t *testing.T) {
+	w := New()
+	say(t, w, "f(f(f(a))) = a", "f(f(f(f(f(a))))) = a", "b != c", "g(a, b) = g(c, a)")
+	before, here := state(w), w.Here()
+	for _, text := range []string{"f(a) = a", "f(a) != a", "x = f(y)", "h(a, b) = h(f(a), b)", "b = b", "b = c"} {
+		s, _, _ := read.Read(text)
+		w.Follows(s)
+		w.Why(s)
+		w.World()
+		if got := state(w); !reflect.DeepEqual(got, before) || w.Here() != here {
+			t.Errorf("%q: %+v, %d changes, want %+v, %d", text, got, w.Here(), before, here)
+		}
+	}
+}
+
+func TestWhatIsSaidMayBeSaidElsewhere(t *testing.T) {
+	w := New()
+	say(t, w, "f(a, g(b), a) = f(a)", "f(a) != f", "b = a")
+	other := New()
+	for _, s := range w.sentences() {
+		other.Say(s)
+	}
+	if !reflect.DeepEqual(state(other), state(w)) {
+		t.Errorf("%+v, want %+v", state(other), state(w))
+	}
+}
