@@ -97,6 +97,10 @@ func (b *Book) Mark() api.Errno {
 	if b.closed() {
 		return api.ErrClosed
 	}
+	if b.web.Marks() >= api.MaxMarks {
+		return api.ErrMany
+	}
+	b.web.Mark()
 	return api.OK
 }
 
@@ -104,6 +108,9 @@ func (b *Book) Mark() api.Errno {
 func (b *Book) Back() api.Errno {
 	if b.closed() {
 		return api.ErrClosed
+	}
+	if !b.web.BackToMark() {
+		return api.ErrNone
 	}
 	return api.OK
 }

@@ -4,6 +4,7 @@ package trail
 // Trail holds a closure for each change, in the order of the changes.
 type Trail struct {
 	backs []func()
+	marks []int // places on the trail, in the order they were marked in
 }
 
 // Leave puts down what changes the last change back.
@@ -25,4 +26,25 @@ func (t *Trail) BackTo(here int) {
 		t.backs = t.backs[:last]
 		back()
 	}
+}
+
+// Mark sets a mark here.
+func (t *Trail) Mark() {
+	t.marks = append(t.marks, t.Here())
+}
+
+// Marks is how many marks there are.
+func (t *Trail) Marks() int {
+	return len(t.marks)
+}
+
+// BackToMark changes back all that was changed since the last mark was set, and takes that mark away. It is false if there is none.
+func (t *Trail) BackToMark() bool {
+	last := len(t.marks) - 1
+	if last < 0 {
+		return false
+	}
+	t.BackTo(t.marks[last])
+	t.marks = t.marks[:last]
+	return true
 }

@@ -28,3 +28,35 @@ func TestBackToCallsTheLastFirst(t *testing.T) {
 		t.Errorf("back to the start: %q, here is %d", text, tr.Here())
 	}
 }
+
+func TestBackToMark(t *testing.T) {
+	var tr Trail
+	text := ""
+	add := func(s string) {
+		text += s
+		tr.Leave(func() { text = text[:len(text)-len(s)] })
+	}
+	if tr.BackToMark() || tr.Marks() != 0 {
+		t.Errorf("with no mark: %d marks", tr.Marks())
+	}
+	add("a")
+	if tr.BackToMark() || text != "a" {
+		t.Errorf("with no mark: %q", text)
+	}
+	tr.Mark()
+	add("b")
+	tr.Mark()
+	tr.Mark()
+	here := tr.Here()
+	add("c")
+	tr.BackTo(here)
+	add("d")
+	for i, want := range []string{"ab", "ab", "a"} {
+		if !tr.BackToMark() || text != want || tr.Marks() != 2-i {
+			t.Errorf("back to a mark: %q, want %q; %d marks", text, want, tr.Marks())
+		}
+	}
+	if tr.BackToMark() || text != "a" || tr.Here() != 1 {
+		t.Errorf("with no mark any more: %q, here is %d", text, tr.Here())
+	}
+}
